@@ -1,0 +1,53 @@
+"""The errors of parameters [3]: each function raises one unless its last argument is right.
+
+The arguments ahead of the last one must have been checked before.
+"""
+
+from nudgewebs.errors import InvalidKind, InvalidLinks, InvalidNudge, InvalidOrder
+from nudgewebs.errors import InvalidQuantity, InvalidSource, InvalidTargets, InvalidWeb
+from nudgewebs.shapes import are_all_below, are_targets, are_ascending_tuples
+from nudgewebs.shapes import has_web_shape, is_number_below
+
+KINDS = ("still", "steady")
+
+
+def check_web(web):
+    if not has_web_shape(web):
+        raise InvalidWeb("not a web")
+
+
+def check_source(web, source):
+    many = web[0] + len(web[2])
+    if not is_number_below(source, many):
+        raise InvalidSource(f"not the number of one of {many} sources")
+
+
+def check_quantity(web, quantity):
+    if not is_number_below(quantity, web[0]):
+        raise InvalidQuantity(f"not the number of one of {web[0]} quantities")
+
+
+def check_targets(web, targets):
+    if not are_targets(targets, web[0]):
+        raise InvalidTargets(f"not an ascending list of one or more of {web[0]} quantities")
+
+
+def check_nudge(web, nudge):
+    if not is_number_below(nudge, len(web[2])):
+        raise InvalidNudge(f"not the number of one of {len(web[2])} nudges")
+
+
+def check_order(web, order):
+    if not are_all_below(order, web[0]):
+        raise InvalidOrder(f"not a list of all {web[0]} quantities, each once")
+
+
+def check_links(web, second, links):
+    if not are_ascending_tuples(links, web[0], second[0]):
+        raise InvalidLinks("not an ascending list of tuples of a quantity of each web")
+
+
+def check_kind(kind):
+    # Python can be told to stop where bytes are compared with strings.
+    if not isinstance(kind, str) or kind not in KINDS:
+        raise InvalidKind("neither still nor steady")
