@@ -159,8 +159,8 @@ class Rows(unittest.TestCase):
                 self.assert_rows(CHAIN, kind, [[wrong, (0, 1), (1, 2)], [(1, 2), (0, 1), wrong], [wrong]], False)
 
     def test_other_items(self):
-        for wrong in [[3, 0], (3, False), (True, 2), (3, 0, 0), (3,), (), 3, None, "30", b"\x03\x00", {3: 0}, ("3", "0"),
-                      (3, None), (None, 0), ((3,), 0), (3, [0])]:
+        for wrong in [[3, 0], (3, False), (True, 2), (3, 0, 0), (3,), (), 3, None, "30", b"\x03\x00", {3: 0},
+                      ("3", "0"), (3, None), (None, 0), ((3,), 0), (3, [0])]:
             self.assert_rows(CHAIN, "still", [[wrong, (0, 1), (1, 2)], [(0, 1), (1, 2), wrong]], False)
         self.assert_rows((2, [(1, 0)], [[1]]), "still", [[(True, 0), (2, 1)], [(1, False), (2, 1)]], False)
 

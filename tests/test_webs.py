@@ -130,7 +130,8 @@ class Renumbered(unittest.TestCase):
     def test_a_few(self):
         self.assertEqual(renumbered(CHAIN, [1, 2, 0]), (3, [(0, 1), (2, 0)], [[2]]))
         self.assertEqual(renumbered(STAR, [0, 1, 2]), STAR)
-        self.assertEqual(renumbered((3, [(0, 0), (1, 2)], [[1, 2], [0]]), [2, 0, 1]), (3, [(1, 1), (2, 0)], [[0, 2], [1]]))
+        web = (3, [(0, 0), (1, 2)], [[1, 2], [0]])
+        self.assertEqual(renumbered(web, [2, 0, 1]), (3, [(1, 1), (2, 0)], [[0, 2], [1]]))
 
     def test_each_order_of_a_small_web(self):
         for order in permutations(range(4)):
