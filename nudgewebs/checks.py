@@ -3,10 +3,11 @@
 The arguments ahead of the last one must have been checked before.
 """
 
-from nudgewebs.errors import InvalidKind, InvalidLinks, InvalidNudge, InvalidOrder
-from nudgewebs.errors import InvalidQuantity, InvalidSource, InvalidTargets, InvalidWeb
-from nudgewebs.shapes import are_all_below, are_targets, are_ascending_tuples
-from nudgewebs.shapes import has_web_shape, is_number_below
+from nudgewebs.errors import InvalidFilling, InvalidGiven, InvalidKind, InvalidLinks, InvalidNudge
+from nudgewebs.errors import InvalidOrder, InvalidQuantity, InvalidSource, InvalidState
+from nudgewebs.errors import InvalidTargets, InvalidWeb
+from nudgewebs.shapes import are_all_below, are_ascending_tuples, are_integers, are_push_rows
+from nudgewebs.shapes import are_targets, has_filling_shape, has_web_shape, is_number_below
 
 KINDS = ("still", "steady")
 
@@ -51,3 +52,23 @@ def check_kind(kind):
     # Python can be told to stop where bytes are compared with strings.
     if not isinstance(kind, str) or kind not in KINDS:
         raise InvalidKind("neither still nor steady")
+
+
+def check_filling(web, filling):
+    if not has_filling_shape(web, filling):
+        raise InvalidFilling("not a filling of the web")
+
+
+def check_state(web, state):
+    if not are_integers(state, web[0]):
+        raise InvalidState(f"not a list of {web[0]} integers")
+
+
+def check_given(web, given):
+    if not are_integers(given, len(web[2])):
+        raise InvalidGiven(f"not a list of {len(web[2])} integers")
+
+
+def check_rows(web, rows):
+    if not are_push_rows(rows, len(web[2])):
+        raise InvalidGiven(f"not a list of 0 to 60 lists of {len(web[2])} integers")

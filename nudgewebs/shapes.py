@@ -6,6 +6,8 @@ other values may have no order.
 
 MOST_QUANTITIES = 20
 MOST_NUDGES = 8
+MOST_ROWS = 60
+GREATEST_NUMBER = 1000000
 
 
 def is_integer(value):
@@ -69,3 +71,35 @@ def has_web_shape(value):
     if not is_integer(count) or not 1 <= count <= MOST_QUANTITIES:
         return False
     return are_ascending_tuples(pairs, count, count) and are_nudges(nudges, count)
+
+
+def are_integers(value, many):
+    """Whether any value is a list of just so many integers."""
+    return isinstance(value, list) and len(value) == many and all([is_integer(one) for one in value])
+
+
+def are_push_rows(value, many):
+    """Whether any value is a list of 0 to 60 lists of pushes, one for each of `many` nudges."""
+    if not isinstance(value, list) or len(value) > MOST_ROWS:
+        return False
+    return all([are_integers(row, many) for row in value])
+
+
+def are_line_numbers(value, many):
+    """Whether any value is a list of just so many numbers that lines can have [6]."""
+    if not are_integers(value, many):
+        return False
+    return all([number != 0 and abs(number) <= GREATEST_NUMBER for number in value])
+
+
+def has_filling_shape(web, value):
+    """Whether any value is a filling [6] of what is known to be a web."""
+    if not isinstance(value, tuple) or len(value) != 2:
+        return False
+    _, pairs, nudges = web
+    numbers, strengths = value
+    if not are_line_numbers(numbers, len(pairs)):
+        return False
+    if not isinstance(strengths, list) or len(strengths) != len(nudges):
+        return False
+    return all([are_line_numbers(row, len(nudge)) for row, nudge in zip(strengths, nudges)])

@@ -22,7 +22,7 @@ def sources_of(web, quantity):
     """The ascending list of the sources that act on a quantity."""
     check_web(web)
     check_quantity(web, quantity)
-    return [source for source, target in all_lines(web) if target == quantity]
+    return source_rows(web)[quantity]
 
 
 def lines_of(web):
@@ -43,6 +43,14 @@ def target_rows(web):
     rows = [[] for _ in range(web[0] + len(web[2]))]
     for source, target in all_lines(web):
         rows[source].append(target)
+    return rows
+
+
+def source_rows(web):
+    """A list with the list of the sources of each quantity, for what is known to be a web."""
+    rows = [[] for _ in range(web[0])]
+    for source, target in all_lines(web):
+        rows[target].append(source)
     return rows
 
 

@@ -181,3 +181,32 @@ def lists_in(value):
         for one in value:
             found.extend(lists_in(one))
     return found
+
+
+def mixed_numbers(numbers, many, greatest):
+    """So many numbers from -greatest to greatest, none of them 0."""
+    return [(next(numbers) % greatest + 1) * (-1) ** (next(numbers) % 2) for _ in range(many)]
+
+
+def mixed_filling(numbers, web, greatest):
+    return filled(web, mixed_numbers(numbers, len(all_lines(web)), greatest))
+
+
+def sums_to(web, filling, fort):
+    """For each source the sum of its numbers to the quantities of a fort."""
+    sums = [0] * (web[0] + len(web[2]))
+    numbers = filling[0] + [number for one in filling[1] for number in one]
+    for (source, target), number in zip(all_lines(web), numbers):
+        sums[source] += number if target in fort else 0
+    return sums
+
+
+def shows_fort(web, kind, fort, filling):
+    """Point 11."""
+    sums = enumerate(sums_to(web, filling, fort))
+    return all(number == int(kind == "steady" and source in fort) for source, number in sums)
+
+
+def product_of(row, other):
+    """Point 8: the product of two lists."""
+    return sum(a * b for a, b in zip(row, other))

@@ -4,67 +4,15 @@ import unittest
 from copy import deepcopy
 from itertools import product
 
-from nudgewebs import every, webs
-from nudgewebs.errors import InvalidKind, InvalidLinks, InvalidNudge, InvalidOrder, InvalidQuantity, InvalidSource
-from nudgewebs.errors import InvalidTargets, InvalidWeb, LineThere, NoLine, TooLarge, WebError
-from tests.samples import BARE, CHAIN, FULL, KINDS, ODD_VALUES, SAMPLES, STAR, TWINS, lists_in
+from nudgewebs import every, fillings, forts, pairings, ways, webs
+from nudgewebs.errors import InvalidFilling, InvalidFort, InvalidGiven, InvalidKind, InvalidLinks, InvalidNudge
+from nudgewebs.errors import InvalidQuantity, InvalidSource, InvalidState, InvalidTargets, InvalidWeb
+from nudgewebs.errors import LineThere, NoLine, TooLarge, WebError
+from tests.cases import CASES, GREAT_CASES, RESULTS, WRONG_FILLINGS, WRONG_FORTS, WRONG_KINDS, WRONG_LINKS
+from tests.cases import WRONG_ORDERS, WRONG_ROWS, WRONG_STATES, WRONG_TARGETS, WRONG_WEBS, is_bool
+from tests.samples import BARE, CHAIN, FULL, KINDS, LOOP, ODD_VALUES, PAIR, SAMPLES, STAR, filled, lists_in
 
-WRONG_WEBS = ODD_VALUES + [
-    (0, [], []), (21, [], []), (True, [], []), (3, [(0, 1), (0, 1)], []), (3, [(0, 3)], []), (3, [], [[]]),
-    (3, [], [[0]] * 9), (3, [[0, 1]], []), [3, [], []],
-]
-WRONG_QUANTITIES = ODD_VALUES + [3, 4, 20, "1", [1], (1,)]
-WRONG_LINKS = [odd for odd in ODD_VALUES if odd not in ([], [(0, 1)])] + [
-    ((0, 1),), [[0, 1]], [(0, 3)], [(3, 0)], [(0, 1), (0, 1)], [(1, 0), (0, 1)], [(-1, 0)], [(0, -1)],
-    [(True, 0)], [(0, False)], [(0, 1, 2)], [(0,)], [(0, 0), (0, 1), None], {(0, 1): 0},
-]
-WRONG_TARGETS = ODD_VALUES + [
-    [], [0, 0], [1, 0], [3], [0, 3], [-1, 0], [True], [0, True], (0,), {0: 0}, "0", [[0]], [0, 1, 2, 3],
-]
-WRONG_ORDERS = ODD_VALUES + [
-    [], [0, 1], [0, 1, 1], [0, 1, 2, 3], [1, 2, 3], [0, 1, 2, 2], [0, True, 2], [False, 1, 2], (0, 1, 2), [-1, 0, 1],
-    {0: 0, 1: 1, 2: 2}, [[0], [1], [2]], ["0", "1", "2"],
-]
-WRONG_KINDS = ODD_VALUES + ["STILL", " still", "steady ", "stil", b"steady", ["still"], ("still", "steady"), 0, 1]
-
-WEB = (InvalidWeb, WRONG_WEBS)
-QUANTITY = (InvalidQuantity, WRONG_QUANTITIES)
-KIND = (InvalidKind, WRONG_KINDS)
-
-# For each function right arguments for a web of three quantities and a nudge, and for each
-# parameter that raises an error that error and wrong values. What is_web and the last
-# parameter of is_forcing_row are passed may be any value.
-CASES = [
-    (webs.targets_of, [STAR, 3], [WEB, (InvalidSource, ODD_VALUES + [4, 5, 28, "3", [3]])]),
-    (webs.sources_of, [STAR, 2], [WEB, QUANTITY]),
-    (webs.lines_of, [STAR], [WEB]),
-    (webs.with_pair, [STAR, 1, 2], [WEB, QUANTITY, QUANTITY]),
-    (webs.without_pair, [STAR, 0, 2], [WEB, QUANTITY, QUANTITY]),
-    (webs.with_nudge, [STAR, [0, 2]], [WEB, (InvalidTargets, WRONG_TARGETS)]),
-    (webs.without_nudge, [STAR, 0], [WEB, (InvalidNudge, ODD_VALUES + [1, 3, "0", [0]])]),
-    (webs.turned, [STAR], [WEB]),
-    (webs.renumbered, [STAR, [2, 0, 1]], [WEB, (InvalidOrder, WRONG_ORDERS)]),
-    (webs.joined, [STAR, CHAIN, [(2, 0)]], [WEB, WEB, (InvalidLinks, WRONG_LINKS)]),
-    (every.reaches_every, [STAR], [WEB]),
-    (every.forcing_row, [STAR, "steady"], [WEB, KIND]),
-    (every.is_forcing_row, [CHAIN, "still", [(3, 0), (0, 1), (1, 2)]], [WEB, KIND]),
-    (every.rounds, [CHAIN, "steady"], [WEB, KIND]),
-    (every.left_open, [STAR, "still"], [WEB, KIND]),
-]
-FULL_HALF = (10, [(a, b) for a in range(10) for b in range(10)], [list(range(10))] * 4)
-GREAT_CASES = [
-    (webs.targets_of, [FULL, 27]), (webs.sources_of, [FULL, 19]), (webs.lines_of, [FULL]),
-    (webs.with_pair, [(20, FULL[1][:-1], FULL[2]), 19, 19]), (webs.without_pair, [FULL, 0, 0]),
-    (webs.with_nudge, [(20, FULL[1], FULL[2][:7]), FULL[2][7]]), (webs.without_nudge, [FULL, 0]),
-    (webs.turned, [FULL]), (webs.renumbered, [FULL, list(range(20))[::-1]]),
-    (webs.joined, [FULL_HALF, FULL_HALF, FULL_HALF[1]]), (webs.joined, [STAR, STAR, []]),
-    (webs.with_nudge, [TWINS, TWINS[2][0]]), (webs.is_web, [FULL]), (webs.is_web, [[[], [[]], []]]),
-    *[(every.reaches_every, [web]) for web in SAMPLES],
-    *[(called, [web, kind]) for called in [every.forcing_row, every.rounds, every.left_open]
-      for web in SAMPLES for kind in KINDS],
-    (every.is_forcing_row, [STAR, "still", [[[3, 0]], [[0]], []]]),
-    (every.is_forcing_row, [FULL, "steady", [(at, at) for at in range(20)]]),
-]
+MODULES = [webs, every, forts, fillings, ways, pairings]
 
 
 def error_of(called, arguments):
@@ -78,8 +26,9 @@ def error_of(called, arguments):
 
 class Parameters(unittest.TestCase):
     def test_right_arguments_raise_nothing(self):
-        for called, right, _ in CASES:
+        for called, right, parameters in CASES:
             self.assertIsNone(error_of(called, right), called)
+            self.assertEqual(len(right), len(parameters))
 
     def test_each_wrong_argument_alone(self):
         for called, right, parameters in CASES:
@@ -92,13 +41,13 @@ class Parameters(unittest.TestCase):
 
     def test_the_first_wrong_argument_of_several(self):
         for called, right, parameters in CASES:
-            for wrong in product([False, True], repeat=len(parameters)):
+            choices = [[False, True] if values else [False] for _, values in parameters]
+            for wrong in product(*choices):
                 if any(wrong):
                     first = parameters[wrong.index(True)][0]
                     for at in range(len(ODD_VALUES)):
                         arguments = [parameters[k][1][(at + 7 * k) % len(parameters[k][1])] if bad else right[k]
                                      for k, bad in enumerate(wrong)]
-                        arguments += right[len(parameters):]
                         self.assertIs(error_of(called, arguments), first, (called, arguments))
 
     def test_errors_that_are_listed_come_behind_those_of_parameters(self):
@@ -113,16 +62,64 @@ class Parameters(unittest.TestCase):
         self.assertIs(error_of(webs.joined, [FULL, BARE, []]), TooLarge)
         self.assertIs(error_of(webs.joined, [FULL, BARE, [(0, 20)]]), InvalidLinks)
         self.assertIs(error_of(webs.joined, [FULL, None, None]), InvalidWeb)
+        self.assertIs(error_of(forts.least_forts, [FULL, "still"]), TooLarge)
+        self.assertIs(error_of(forts.least_forts, [FULL, "Still"]), InvalidKind)
+        self.assertIs(error_of(forts.least_forts, [list(FULL), "still"]), InvalidWeb)
+        self.assertIs(error_of(forts.least_forts, [None, None]), InvalidWeb)
 
     def test_limits_are_those_of_the_web(self):
         for web in SAMPLES:
             count, many = web[0], len(web[2])
             for called, error, limit in [(webs.targets_of, InvalidSource, count + many),
                                          (webs.sources_of, InvalidQuantity, count),
+                                         (ways.way_to, InvalidQuantity, count),
                                          (webs.without_nudge, InvalidNudge, many)]:
                 for value in range(-30, 31):
                     wanted = None if 0 <= value < limit else error
                     self.assertIs(error_of(called, [web, value]), wanted, (called, web, value))
+
+    def test_as_many_numbers_as_the_web_asks_for(self):
+        for web in SAMPLES:
+            count, many = web[0], len(web[2])
+            filling = filled(web, [1] * 560)
+            for length in range(31):
+                numbers = [5] * length
+                wanted = None if length == count else InvalidState
+                for called in [fillings.is_reached, fillings.pushes_to]:
+                    self.assertIs(error_of(called, [web, filling, numbers]), wanted)
+                self.assertIs(error_of(fillings.step, [web, filling, numbers, [5] * many]), wanted)
+                self.assertIs(error_of(fillings.run, [web, filling, numbers, []]), wanted)
+                self.assertIs(error_of(fillings.shows_pushes, [web, filling, numbers, None]), wanted)
+                wanted = None if length == many else InvalidGiven
+                self.assertIs(error_of(fillings.step, [web, filling, [5] * count, numbers]), wanted)
+                self.assertIs(error_of(fillings.run, [web, filling, [5] * count, [numbers]]), wanted)
+
+    def test_from_0_to_60_rows(self):
+        for web in SAMPLES:
+            filling, state, given = filled(web, [1] * 560), [0] * web[0], [0] * len(web[2])
+            for many in [0, 1, 59, 60]:
+                self.assertIsNone(error_of(fillings.run, [web, filling, state, [given] * many]))
+            for many in [61, 62, 100, 420]:
+                self.assertIs(error_of(fillings.run, [web, filling, state, [given] * many]), InvalidGiven)
+
+    def test_a_filling_is_one_of_just_this_web(self):
+        for web in SAMPLES:
+            for other in SAMPLES:
+                filling = filled(other, [1] * 560)
+                lengths = [[len(one[1]), *map(len, one[2])] for one in (web, other)]
+                wanted = None if lengths[0] == lengths[1] else InvalidFilling
+                self.assertIs(error_of(fillings.reach_rows, [web, filling]), wanted, (web, other))
+
+    def test_a_fort_is_one_of_just_this_web_and_kind(self):
+        for called in [forts.fort_filling, lambda *given: forts.shows_fort(*given, filled(given[0], [1] * 560))]:
+            for web, kind, fort in [(STAR, "still", [1, 2]), (LOOP, "steady", [0]), (PAIR, "still", [0, 2]),
+                                    (PAIR, "steady", [0, 1]), (BARE, "still", [19])]:
+                self.assertIsNone(error_of(called, [web, kind, fort]))
+                other = KINDS[1 - KINDS.index(kind)]
+                self.assertIs(error_of(called, [web, other, fort]), InvalidFort)
+                self.assertIs(error_of(called, [CHAIN, kind, fort]), InvalidFort)
+                self.assertIs(error_of(called, [web, kind, tuple(fort)]), InvalidFort)
+                self.assertIs(error_of(called, [web, kind + " ", fort]), InvalidKind)
 
     def test_a_link_has_a_quantity_of_the_first_and_one_of_the_second_web(self):
         one, five = (1, [], []), (5, [], [])
@@ -135,10 +132,17 @@ class Parameters(unittest.TestCase):
                 self.assertIs(error_of(webs.joined, [five, one, links]), None if right else InvalidLinks)
 
     def test_functions_for_any_value_raise_nothing(self):
-        for value in WRONG_WEBS + WRONG_LINKS + WRONG_TARGETS + WRONG_ORDERS + WRONG_KINDS:
+        odd = [*WRONG_WEBS, *WRONG_LINKS, *WRONG_TARGETS, *WRONG_ORDERS, *WRONG_KINDS, *WRONG_FORTS, *WRONG_FILLINGS,
+               *WRONG_STATES, *WRONG_ROWS]
+        for value in odd:
             self.assertIn(webs.is_web(value), [False, True])
+            self.assertIn(pairings.is_pairing(STAR, value), [False, True])
+            self.assertIn(pairings.is_gap(STAR, value), [False, True])
+            self.assertIs(fillings.is_filling(STAR, value), False)
+            self.assertIs(fillings.shows_pushes(STAR, ([4, -4], [[7]]), [1, 1, 1], value), False)
             for kind in KINDS:
                 self.assertIs(every.is_forcing_row(CHAIN, kind, value), False)
+                self.assertIs(forts.is_fort(CHAIN, kind, value), False)
 
 
 class Lists(unittest.TestCase):
@@ -187,32 +191,38 @@ class Lists(unittest.TestCase):
             self.assertNotIn("changed", [one for nudge in result[2][1:] for one in nudge])
             self.assertEqual(same, [0, 1])
 
+    def test_arguments_that_are_one_list(self):
+        web, same = (1, [(0, 0)], [[0]]), [3]
+        filling = (same, [same])
+        self.assertEqual(fillings.step(web, filling, same, same), [18])
+        self.assertEqual(fillings.run(web, filling, same, [same] * 2), [[3], [18], [63]])
+        self.assertIs(fillings.shows_pushes(web, filling, same, (12, [same] * 2)), True)
+        self.assertEqual(same, [3])
+
 
 class Kinds(unittest.TestCase):
     """The kinds of the results are just those that the document names."""
 
-    def assert_integers(self, values):
-        self.assertTrue(all(type(value) is int for value in values))
+    def test_each_function_has_cases(self):
+        # What a module imports or needs for itself stands in none of these lists.
+        listed = {called.__name__ for called, _, _ in CASES}
+        self.assertEqual(len(listed), len(CASES))
+        for called, _ in GREAT_CASES:
+            self.assertIn(called.__name__, listed)
+        for called, _, _ in CASES:
+            self.assertIn(called.__module__, [module.__name__ for module in MODULES])
+
+    def test_results(self):
+        for called, arguments in [(called, right) for called, right, _ in CASES] + GREAT_CASES:
+            is_right = RESULTS.get(called, is_bool)
+            result = called(*arguments)
+            self.assertTrue(is_right(result), (called, result))
 
     def test_webs(self):
         for called, arguments in [(called, right) for called, right, _ in CASES] + GREAT_CASES:
-            result = called(*arguments)
-            name = called.__name__
-            if name in ("is_web", "is_forcing_row", "reaches_every"):
-                self.assertIs(type(result), bool)
-            elif name in ("targets_of", "sources_of", "left_open"):
-                self.assertIs(type(result), list)
-                self.assert_integers(result)
-            elif name in ("lines_of", "forcing_row"):
-                self.assertIn(type(result), (list, type(None)))
-                self.assertEqual({type(one) for one in result or [()]}, {tuple})
-                self.assert_integers(number for one in result or [] for number in one)
-            elif name == "rounds":
-                self.assertIs(type(result), list)
-                self.assert_integers(number for one in result for number in one)
-            else:
-                self.assertIs(type(result), tuple)
-                self.assertTrue(webs.is_web(result))
+            if called.__name__ in ("with_pair", "without_pair", "with_nudge", "without_nudge", "turned", "renumbered",
+                                   "joined"):
+                self.assertTrue(webs.is_web(called(*arguments)))
 
 
 if __name__ == "__main__":

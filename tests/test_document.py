@@ -5,8 +5,12 @@ import inspect
 import unittest
 from pathlib import Path
 
-from nudgewebs import every, webs
+from nudgewebs import every, fillings, forts, pairings, ways, webs
 from nudgewebs.every import forcing_row, left_open, reaches_every, rounds
+from nudgewebs.fillings import is_reached, reach_dimension, reach_rows, run, step, unmoved_rows
+from nudgewebs.forts import least_forts, shows_fort
+from nudgewebs.pairings import is_gap, loose, pairing_size
+from nudgewebs.ways import first_rooms, rooms, unreached, way_to
 from nudgewebs.webs import joined, renumbered, targets_of, turned
 
 INTERFACE = {
@@ -20,8 +24,28 @@ INTERFACE = {
         "reaches_every": ["web"], "forcing_row": ["web", "kind"], "is_forcing_row": ["web", "kind", "value"],
         "rounds": ["web", "kind"], "left_open": ["web", "kind"],
     },
+    forts: {
+        "is_fort": ["web", "kind", "value"], "least_forts": ["web", "kind"], "fort_filling": ["web", "kind", "fort"],
+        "shows_fort": ["web", "kind", "fort", "filling"],
+    },
+    fillings: {
+        "is_filling": ["web", "value"], "step": ["web", "filling", "state", "given"],
+        "run": ["web", "filling", "state", "rows"], "reach_dimension": ["web", "filling"],
+        "reach_rows": ["web", "filling"], "unmoved_rows": ["web", "filling"], "is_reached": ["web", "filling", "state"],
+        "pushes_to": ["web", "filling", "state"], "shows_pushes": ["web", "filling", "state", "value"],
+    },
+    ways: {
+        "reached": ["web"], "unreached": ["web"], "way_to": ["web", "quantity"], "rooms": ["web"],
+        "first_rooms": ["web"],
+    },
+    pairings: {
+        "greatest_pairing": ["web"], "pairing_size": ["web"], "is_pairing": ["web", "value"], "loose": ["web"],
+        "is_gap": ["web", "value"],
+    },
 }
 star, chain = (3, [(0, 1), (0, 2)], [[0]]), (3, [(0, 1), (1, 2)], [[0]])
+pair = (3, [(0, 1), (1, 0), (1, 2)], [])
+some = ([1, -1], [[1]])
 
 
 class Examples(unittest.TestCase):
@@ -39,13 +63,31 @@ class Examples(unittest.TestCase):
         self.assertEqual([forcing_row(chain, "still"), forcing_row(star, "steady"), rounds(star, "steady")],
                          [[(3, 0), (0, 1), (1, 2)], [(3, 0), (1, 1), (0, 2)], [[0, 1, 2]]])
 
+    def test_forts(self):
+        self.assertEqual([least_forts(star, "still"), least_forts(star, "steady"),
+                          shows_fort(star, "still", [1, 2], ([4, -4], [[7]]))], [[[1, 2]], [], True])
+
+    def test_fillings(self):
+        self.assertEqual([step(star, some, [5, 0, 0], [2]), run(star, some, [0, 0, 0], [[3], [0]])],
+                         [[2, 5, -5], [[0, 0, 0], [3, 0, 0], [0, 3, -3]]])
+        self.assertEqual([reach_dimension(star, some), reach_rows(star, ([2, 3], [[1]])),
+                          is_reached(star, some, [0, 1, 1])], [2, [[1, 0, 0], [0, 2, 3]], False])
+        self.assertEqual(unmoved_rows(star, some), [[0, 1, 1]])
+
+    def test_ways(self):
+        self.assertEqual([rooms(pair), first_rooms(pair), unreached(pair), way_to(chain, 2)],
+                         [[[0, 1], [2]], [[0, 1]], [0, 1, 2], (0, [0, 1, 2])])
+
+    def test_pairings(self):
+        self.assertEqual([pairing_size(star), loose(star), loose(chain), is_gap(star, [1, 2]), is_gap(star, [0, 1, 2]),
+                          is_gap(star, [1])], [2, [1, 2], [], True, True, False])
 
     def test_readme(self):
         # The marks around the examples would be taken for what the last one prints.
         text = (Path(__file__).resolve().parent.parent / "README.md").read_text("utf-8").replace("```", "")
         examples = doctest.DocTestParser().get_doctest(text, {}, "README.md", "README.md", 0)
         found = doctest.DocTestRunner().run(examples)
-        self.assertEqual((found.failed, found.attempted), (0, 7))
+        self.assertEqual((found.failed, found.attempted), (0, 18))
 
 
 class Interface(unittest.TestCase):

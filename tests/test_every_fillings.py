@@ -4,8 +4,8 @@ import unittest
 from itertools import product
 
 from nudgewebs.every import left_open, reaches_every
-from tests.samples import CHAIN, FULL, KINDS, SAMPLES, STAR, STUCK, all_lines, filled, mixed_web, numbers_from
-from tests.samples import reach_dimension, small_webs, step
+from tests.samples import CHAIN, FULL, KINDS, SAMPLES, STAR, STUCK, all_lines, filled, mixed_filling, mixed_web
+from tests.samples import numbers_from, reach_dimension, small_webs, step
 
 NUMBERS = [-2, -1, 1, 2]
 
@@ -111,8 +111,7 @@ class NoForts(unittest.TestCase):
             self.assertIs(reaches_every(web), True)
             one = (count, web[1], web[2][:1])
             for _ in range(2):
-                mixed = [(next(numbers) % 9 + 1) * (-1) ** (next(numbers) % 2) for _ in all_lines(one)]
-                self.assertEqual(reach_dimension(one, filled(one, mixed)), count)
+                self.assertEqual(reach_dimension(one, mixed_filling(numbers, one, 9)), count)
 
     def test_mixed_webs(self):
         numbers, found = numbers_from(29), 0
@@ -121,8 +120,7 @@ class NoForts(unittest.TestCase):
             if reaches_every(web):
                 found += 1
                 for _ in range(5):
-                    mixed = [(next(numbers) % 3 + 1) * (-1) ** (next(numbers) % 2) for _ in all_lines(web)]
-                    self.assertEqual(reach_dimension(web, filled(web, mixed)), web[0])
+                    self.assertEqual(reach_dimension(web, mixed_filling(numbers, web, 3)), web[0])
         self.assertGreater(found, 10)
 
 
