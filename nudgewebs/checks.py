@@ -3,11 +3,12 @@
 The arguments ahead of the last one must have been checked before.
 """
 
-from nudgewebs.errors import InvalidFilling, InvalidGiven, InvalidKind, InvalidLinks, InvalidNudge
-from nudgewebs.errors import InvalidOrder, InvalidQuantity, InvalidSource, InvalidState
-from nudgewebs.errors import InvalidTargets, InvalidWeb
+from nudgewebs.errors import InvalidFilling, InvalidGiven, InvalidHill, InvalidKind, InvalidLinks
+from nudgewebs.errors import InvalidNudge, InvalidOrder, InvalidQuantity, InvalidSource
+from nudgewebs.errors import InvalidState, InvalidTargets, InvalidWeb
 from nudgewebs.shapes import are_all_below, are_ascending_tuples, are_integers, are_push_rows
-from nudgewebs.shapes import are_targets, has_filling_shape, has_web_shape, is_number_below
+from nudgewebs.shapes import are_targets, has_filling_shape, has_hill_shape, has_web_shape
+from nudgewebs.shapes import is_number_below
 
 KINDS = ("still", "steady")
 
@@ -72,3 +73,8 @@ def check_given(web, given):
 def check_rows(web, rows):
     if not are_push_rows(rows, len(web[2])):
         raise InvalidGiven(f"not a list of 0 to 60 lists of {len(web[2])} integers")
+
+
+def check_hill(web, hill):
+    if not has_hill_shape(web, hill):
+        raise InvalidHill("not a hill of the web")

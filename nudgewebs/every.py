@@ -8,7 +8,7 @@ from nudgewebs.webs import target_rows
 def reaches_every(web):
     """Whether every filling reaches all states: if nothing is left open for either kind."""
     check_web(web)
-    return not any([forced_and_unforced(web, kind)[1] for kind in KINDS])
+    return leaves_none_open(web)
 
 
 def forcing_row(web, kind):
@@ -95,10 +95,18 @@ def least_sources(rules, unforced):
     return forcing
 
 
+def leaves_none_open(web):
+    """Whether nothing is left open for either kind, for what is known to be a web."""
+    return not any([forced_and_unforced(web, kind)[1] for kind in KINDS])
+
+
 def forced_and_unforced(web, kind):
     """The tuple of the rounds and of the quantities that are left open, for a web and a kind."""
-    rules = forcing_rules(web, kind)
-    unforced = list(range(web[0]))
+    return forced_from(forcing_rules(web, kind), list(range(web[0])))
+
+
+def forced_from(rules, unforced):
+    """The same tuple, if only some quantities are open at first."""
     done = []
     forcing = least_sources(rules, unforced)
     while forcing:

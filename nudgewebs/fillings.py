@@ -95,6 +95,16 @@ def all_numbers(filling):
     return numbers + [number for row in strengths for number in row]
 
 
+def filling_with(web, numbers):
+    """The filling that gives the lines of a web these numbers, in their sequence."""
+    rest = list(numbers)
+    rows = []
+    for many in [len(web[1])] + [len(nudge) for nudge in web[2]]:
+        rows.append(rest[:many])
+        rest = rest[many:]
+    return rows[0], rows[1:]
+
+
 def numbered_lines(web, filling):
     """The list of the lines, each as a tuple of its source, its target and its number."""
     numbers = all_numbers(filling)

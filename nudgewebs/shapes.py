@@ -8,6 +8,7 @@ MOST_QUANTITIES = 20
 MOST_NUDGES = 8
 MOST_ROWS = 60
 GREATEST_NUMBER = 1000000
+GREATEST_HEIGHT = 1000
 
 
 def is_integer(value):
@@ -103,3 +104,16 @@ def has_filling_shape(web, value):
     if not isinstance(strengths, list) or len(strengths) != len(nudges):
         return False
     return all([are_line_numbers(row, len(nudge)) for row, nudge in zip(strengths, nudges)])
+
+
+def are_heights(value, many):
+    """Whether any value is a list of just so many heights or prices [14]."""
+    return are_below(value, GREATEST_HEIGHT + 1) and len(value) == many
+
+
+def has_hill_shape(web, value):
+    """Whether any value is a hill [14] of what is known to be a web."""
+    if not isinstance(value, tuple) or len(value) != 2:
+        return False
+    heights, prices = value
+    return are_heights(heights, web[0]) and are_heights(prices, len(web[2]))

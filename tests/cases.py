@@ -1,52 +1,13 @@
 """Right and wrong arguments of all functions, and the kinds of their results."""
 
-from nudgewebs import every, fillings, forts, pairings, ways, webs
-from nudgewebs.errors import InvalidFilling, InvalidFort, InvalidGiven, InvalidKind, InvalidLinks, InvalidNudge
-from nudgewebs.errors import InvalidOrder, InvalidQuantity, InvalidSource, InvalidState, InvalidTargets, InvalidWeb
-from tests.samples import BARE, CHAIN, FULL, KINDS, LONG, ODD_VALUES, PAIR, SAMPLES, STAR, TWINS, filled, nested
-
-WRONG_WEBS = ODD_VALUES + [
-    (0, [], []), (21, [], []), (True, [], []), (3, [(0, 1), (0, 1)], []), (3, [(0, 3)], []), (3, [], [[]]),
-    (3, [], [[0]] * 9), (3, [[0, 1]], []), [3, [], []],
-]
-WRONG_QUANTITIES = ODD_VALUES + [3, 4, 20, "1", [1], (1,)]
-WRONG_LINKS = [odd for odd in ODD_VALUES if odd not in ([], [(0, 1)])] + [
-    ((0, 1),), [[0, 1]], [(0, 3)], [(3, 0)], [(0, 1), (0, 1)], [(1, 0), (0, 1)], [(-1, 0)], [(0, -1)],
-    [(True, 0)], [(0, False)], [(0, 1, 2)], [(0,)], [(0, 0), (0, 1), None], {(0, 1): 0},
-]
-WRONG_TARGETS = ODD_VALUES + [
-    [], [0, 0], [1, 0], [3], [0, 3], [-1, 0], [True], [0, True], (0,), {0: 0}, "0", [[0]], [0, 1, 2, 3],
-]
-WRONG_ORDERS = ODD_VALUES + [
-    [], [0, 1], [0, 1, 1], [0, 1, 2, 3], [1, 2, 3], [0, 1, 2, 2], [0, True, 2], [False, 1, 2], (0, 1, 2), [-1, 0, 1],
-    {0: 0, 1: 1, 2: 2}, [[0], [1], [2]], ["0", "1", "2"],
-]
-WRONG_KINDS = ODD_VALUES + ["STILL", " still", "steady ", "stil", b"steady", ["still"], ("still", "steady"), 0, 1]
-
-# Here are the values that are wrong for the star [4] and, the forts, for the kind still.
-WRONG_FORTS = ODD_VALUES + [
-    [], [0], [1], [2], [0, 1], [0, 2], [0, 1, 2], [2, 1], [1, 1], [1, 2, 2], [1, 3], [-1, 1], [1, 2, 3], [-2, -1],
-    (1, 2), [True, 2], [1, 2, None], {1: 2}, "12", [[1, 2]], [(1, 2)], 1, 2, [1, "2"],
-]
-WRONG_FILLINGS = ODD_VALUES + [
-    ([], []), ([4], [[7]]), ([4, -4, 1], [[7]]), ([4, -4], []), ([4, -4], [[]]), ([4, -4], [[7, 7]]),
-    ([4, -4], [[7], [7]]), ([0, -4], [[7]]), ([4, 0], [[7]]), ([4, -4], [[0]]), ([10 ** 6 + 1, 1], [[7]]),
-    ([4, -10 ** 6 - 1], [[7]]), ([4, -4], [[10 ** 6 + 1]]), ([True, -4], [[7]]), ([4, -4], [[True]]),
-    ((4, -4), [[7]]), ([4, -4], ([7],)), ([4, -4], [(7,)]), [[4, -4], [[7]]], ([4, -4], [7]), ([4, -4], 7),
-    ([4, -4], [[7]], []), ([4, -4],), ([[4, -4]], [[7]]), ([4, "-4"], [[7]]), ([4, None], [[7]]), ([4, -4], None),
-    ([4, -4], [["7"]]), ([4, -4], [None]), ({0: 4, 1: -4}, [[7]]), ([4, -4], {0: [7]}), ([[7]], [4, -4]),
-]
-WRONG_STATES = ODD_VALUES + [
-    [], [0], [0, 0], [0, 0, 0, 0], (0, 0, 0), [0, 0, True], [False, 0, 0], [0, 0, None], [0, "0", 0], [[0, 0, 0]],
-    [[0], [0], [0]], {0: 0, 1: 0, 2: 0}, "000", b"000", 0, 3,
-]
-WRONG_GIVEN = [odd for odd in ODD_VALUES if not (type(odd) is list and [type(one) for one in odd] == [int])] + [
-    [], [0, 0], [0, 0, 0], (5,), [None], ["5"], [[5]], {0: 5}, "5", 5, [5, None],
-]
-WRONG_ROWS = ODD_VALUES + [
-    [[1]] * 61, [[1, 1]], [[1], []], [[1], [1, 1]], ([1],), [(1,)], [[1], (1,)], [[True]], [[1], [False]], [1], [[[1]]],
-    [[1], None], [["1"]], {0: [1]}, "", 0, [[1]] * 60 + [[]], [[1], [None]],
-]
+from nudgewebs import every, fillings, forts, further, lines, pairings, some, ways, webs
+from nudgewebs.errors import InvalidFilling, InvalidFort, InvalidGiven, InvalidHill, InvalidKind, InvalidLinks
+from nudgewebs.errors import InvalidNudge, InvalidOrder, InvalidQuantity, InvalidSource, InvalidState, InvalidTargets
+from nudgewebs.errors import InvalidWeb
+from tests.kinds import LINES, NUMBER_LISTS, NUMBERS, WEBS, is_number, is_string, list_of, none_or, tuple_of
+from tests.samples import BARE, CHAIN, FULL, KINDS, LONG, LOOP, ODD_VALUES, PAIR, SAMPLES, STAR, TWINS, filled
+from tests.wrong import WRONG_FILLINGS, WRONG_FORTS, WRONG_GIVEN, WRONG_HILLS, WRONG_KINDS, WRONG_LINKS, WRONG_ORDERS
+from tests.wrong import WRONG_QUANTITIES, WRONG_ROWS, WRONG_STATES, WRONG_TARGETS, WRONG_WEBS
 
 WEB = (InvalidWeb, WRONG_WEBS)
 QUANTITY = (InvalidQuantity, WRONG_QUANTITIES)
@@ -56,6 +17,7 @@ FILLING = (InvalidFilling, WRONG_FILLINGS)
 STATE = (InvalidState, WRONG_STATES)
 GIVEN = (InvalidGiven, WRONG_GIVEN)
 ROWS = (InvalidGiven, WRONG_ROWS)
+HILL = (InvalidHill, WRONG_HILLS)
 SHOWING = ([4, -4], [[7]])
 # Values for the parameters that may be any value.
 ANY = (None, [])
@@ -102,6 +64,26 @@ CASES = [
     (pairings.is_pairing, [STAR, [(0, 2), (3, 0)]], [WEB, ANY]),
     (pairings.loose, [STAR], [WEB]),
     (pairings.is_gap, [STAR, [1, 2]], [WEB, ANY]),
+    (some.reaches_some, [STAR], [WEB]),
+    (some.most, [STAR], [WEB]),
+    (some.best_filling, [STAR], [WEB]),
+    (some.best_cover, [STAR], [WEB]),
+    (some.best_hill, [STAR], [WEB]),
+    (some.is_cover, [STAR, ([(0, [0, 2])], [])], [WEB, ANY]),
+    (some.is_hill, [STAR, ([1, 0, 0], [2])], [WEB, ANY]),
+    (some.bound_of, [STAR, ([1, 0, 0], [2])], [WEB, HILL]),
+    (some.placed, [STAR], [WEB]),
+    (further.fewest_wide, [STAR], [WEB]),
+    (further.wide_nudges, [STAR], [WEB]),
+    (further.fewest_single, [STAR], [WEB]),
+    (further.single_nudges, [STAR], [WEB]),
+    (further.fewest_sure, [STAR], [WEB]),
+    (further.sure_nudges, [STAR], [WEB]),
+    (lines.needed, [STAR], [WEB]),
+    (lines.raising, [STAR], [WEB]),
+    (lines.spoiling, [CHAIN], [WEB]),
+    (lines.mending, [STAR], [WEB]),
+    (lines.mending_pairs, [STAR], [WEB]),
 ]
 
 EVERY = list(range(20))
@@ -140,34 +122,19 @@ GREAT_CASES = [
     *[(ways.way_to, [web, web[0] - 1]) for web in SAMPLES],
     *[(pairings.is_pairing, [FULL, value]) for value in [[(at, at) for at in EVERY], [[[0, 1]], [[]]]]],
     *[(pairings.is_gap, [FULL, value]) for value in [EVERY, [[0], [[1]]]]],
+    *[(called, [web]) for called in [some.reaches_some, some.most, some.best_filling, some.best_cover, some.best_hill,
+                                     some.placed, further.fewest_wide, further.wide_nudges, further.fewest_single,
+                                     further.single_nudges, lines.needed, lines.raising, lines.spoiling, lines.mending,
+                                     lines.mending_pairs]
+      for web in SAMPLES],
+    *[(called, [web]) for called in [further.fewest_sure, further.sure_nudges]
+      for web in [STAR, CHAIN, PAIR, LOOP, TWINS, FULL_HALF]],
+    (some.is_cover, [FULL, ([(at, [at, 19 - at]) for at in range(8)], [[8, 9, 10], [11]])]),
+    (some.is_cover, [STAR, ([(0, [[0]]), [[0, [0]]]], [[[0]], []])]), (some.is_cover, [STAR, []]),
+    (some.is_hill, [STAR, ([[1, 0, 0]], [[2], []])]), (some.is_hill, [FULL, (EVERY, [1000] * 8)]),
+    (some.bound_of, [FULL, (EVERY, [1000] * 8)]), (some.bound_of, [BARE, (EVERY, [])]),
 ]
 
-
-def is_number(value):
-    return type(value) is int
-
-
-def is_bool(value):
-    return type(value) is bool
-
-
-def list_of(is_one):
-    return lambda value: type(value) is list and all(is_one(one) for one in value)
-
-
-def tuple_of(*are_items):
-    return lambda value: (type(value) is tuple and len(value) == len(are_items)
-                          and all(is_one(one) for is_one, one in zip(are_items, value)))
-
-
-def none_or(is_one):
-    return lambda value: value is None or is_one(value)
-
-
-NUMBERS = list_of(is_number)
-NUMBER_LISTS = list_of(NUMBERS)
-LINES = list_of(tuple_of(is_number, is_number))
-WEBS = tuple_of(is_number, LINES, NUMBER_LISTS)
 # The kinds of the results. Those of all other functions are bools.
 RESULTS = {
     webs.targets_of: NUMBERS, webs.sources_of: NUMBERS, webs.lines_of: LINES, webs.with_pair: WEBS,
@@ -178,5 +145,11 @@ RESULTS = {
     fillings.unmoved_rows: NUMBER_LISTS, fillings.pushes_to: none_or(tuple_of(is_number, NUMBER_LISTS)),
     ways.reached: NUMBERS, ways.unreached: NUMBERS, ways.way_to: none_or(tuple_of(is_number, NUMBERS)),
     ways.rooms: NUMBER_LISTS, ways.first_rooms: NUMBER_LISTS, pairings.greatest_pairing: LINES,
-    pairings.pairing_size: is_number, pairings.loose: NUMBERS,
+    pairings.pairing_size: is_number, pairings.loose: NUMBERS, some.most: is_number,
+    some.best_filling: tuple_of(NUMBERS, NUMBER_LISTS), some.best_hill: tuple_of(NUMBERS, NUMBERS),
+    some.best_cover: tuple_of(list_of(tuple_of(is_number, NUMBERS)), NUMBER_LISTS), some.bound_of: is_number,
+    some.placed: list_of(is_string), further.fewest_wide: is_number, further.wide_nudges: NUMBER_LISTS,
+    further.fewest_single: is_number, further.single_nudges: NUMBERS, further.fewest_sure: is_number,
+    further.sure_nudges: NUMBER_LISTS, lines.needed: LINES, lines.raising: LINES, lines.spoiling: LINES,
+    lines.mending: LINES, lines.mending_pairs: LINES,
 }

@@ -210,3 +210,86 @@ def shows_fort(web, kind, fort, filling):
 def product_of(row, other):
     """Point 8: the product of two lists."""
     return sum(a * b for a, b in zip(row, other))
+
+
+def behind(web, starts):
+    """The set of some quantities and of all to which pairs lead from them."""
+    found = set(starts)
+    while True:
+        more = {target for source, target in web[1] if source in found} - found
+        if not more:
+            return found
+        found |= more
+
+
+def reached(web):
+    """Point 12: the set of the quantities that are reached."""
+    return behind(web, {quantity for nudge in web[2] for quantity in nudge})
+
+
+def covers(web):
+    """For each cover of a small web [13], found by trying, a dict of its quantities and their sources."""
+    # In a cover each quantity has a source of its own, and each source that is a quantity has one
+    # itself. So the quantities stand in ways and in rings, and those in rings must be reached.
+    chosen = [{}]
+    for quantity in range(web[0]):
+        sources = [source for source, target in all_lines(web) if target == quantity]
+        chosen += [{**some, quantity: source} for some in chosen for source in sources if source not in some.values()]
+    quantities, met = set(range(web[0])), reached(web)
+    return [some for some in chosen if set(some.values()) & quantities <= set(some) <= met]
+
+
+def cover_from(web, chosen):
+    """The tuple of the ways and the rings of a cover that is given by the sources of its quantities."""
+    following = {source: quantity for quantity, source in chosen.items()}
+    rows = {}
+    for quantity in sorted(chosen):
+        row = [quantity]
+        while row[-1] in following and following[row[-1]] != quantity:
+            row.append(following[row[-1]])
+        rows[quantity] = row
+    ways = [(source - web[0], rows[quantity]) for quantity, source in chosen.items() if source >= web[0]]
+    inside = {quantity for _, way in ways for quantity in way}
+    rings = [rows[quantity] for quantity in sorted(rows) if quantity not in inside and quantity == min(rows[quantity])]
+    return ways, rings
+
+
+def covered_sets(web):
+    """All sets of quantities that some cover of a small web has."""
+    return {frozenset(chosen) for chosen in covers(web)}
+
+
+def greatest_size(web):
+    return max(len(some) for some in covered_sets(web))
+
+
+def ring_web(lengths, nudges):
+    """Rings of these lengths, one behind the other, with a pair from each one to the next one."""
+    pairs, count = set(), 0
+    for length in lengths:
+        pairs |= {(count + at, count + (at + 1) % length) for at in range(length)}
+        if count:
+            pairs.add((count - 1, count))
+        count += length
+    return (count, sorted(pairs), nudges)
+
+
+def is_cover(web, ways, rings):
+    """Point 13, for lists of the right kinds: ways as tuples of a nudge and a list, rings as lists."""
+    rows = [way for _, way in ways] + rings
+    steps = [pair for row in rows for pair in zip(row, row[1:])] + [(ring[-1], ring[0]) for ring in rings]
+    covered = [quantity for row in rows for quantity in row]
+    return (all(pair in web[1] for pair in steps) and len(set(covered)) == len(covered)
+            and all(way[0] in web[2][nudge] for nudge, way in ways)
+            and len({nudge for nudge, _ in ways}) == len(ways) and all(set(ring) <= reached(web) for ring in rings))
+
+
+def hill_bound(web, hill):
+    """Point 14: the bound of a hill."""
+    heights, prices = hill
+    bound, met = sum(prices), reached(web)
+    for quantity in met:
+        tops = [heights[source] for source in met if (source, quantity) in web[1]]
+        tops += [price for nudge, price in zip(web[2], prices) if quantity in nudge]
+        bound += max([0, *[1 + heights[quantity] - top for top in tops]])
+    return bound

@@ -4,15 +4,17 @@ import unittest
 from copy import deepcopy
 from itertools import product
 
-from nudgewebs import every, fillings, forts, pairings, ways, webs
-from nudgewebs.errors import InvalidFilling, InvalidFort, InvalidGiven, InvalidKind, InvalidLinks, InvalidNudge
-from nudgewebs.errors import InvalidQuantity, InvalidSource, InvalidState, InvalidTargets, InvalidWeb
+from nudgewebs import every, fillings, forts, further, lines, pairings, some, ways, webs
+from nudgewebs.errors import InvalidFilling, InvalidFort, InvalidGiven, InvalidHill, InvalidKind, InvalidLinks
+from nudgewebs.errors import InvalidNudge, InvalidQuantity, InvalidSource, InvalidState, InvalidTargets, InvalidWeb
 from nudgewebs.errors import LineThere, NoLine, TooLarge, WebError
-from tests.cases import CASES, GREAT_CASES, RESULTS, WRONG_FILLINGS, WRONG_FORTS, WRONG_KINDS, WRONG_LINKS
-from tests.cases import WRONG_ORDERS, WRONG_ROWS, WRONG_STATES, WRONG_TARGETS, WRONG_WEBS, is_bool
+from tests.cases import CASES, GREAT_CASES, RESULTS
+from tests.kinds import is_bool
 from tests.samples import BARE, CHAIN, FULL, KINDS, LOOP, ODD_VALUES, PAIR, SAMPLES, STAR, filled, lists_in
+from tests.wrong import WRONG_FILLINGS, WRONG_FORTS, WRONG_HILLS, WRONG_KINDS, WRONG_LINKS, WRONG_ORDERS, WRONG_ROWS
+from tests.wrong import WRONG_STATES, WRONG_TARGETS, WRONG_WEBS
 
-MODULES = [webs, every, forts, fillings, ways, pairings]
+MODULES = [webs, every, forts, fillings, ways, pairings, some, further, lines]
 
 
 def error_of(called, arguments):
@@ -66,6 +68,10 @@ class Parameters(unittest.TestCase):
         self.assertIs(error_of(forts.least_forts, [FULL, "Still"]), InvalidKind)
         self.assertIs(error_of(forts.least_forts, [list(FULL), "still"]), InvalidWeb)
         self.assertIs(error_of(forts.least_forts, [None, None]), InvalidWeb)
+        for called in [further.fewest_sure, further.sure_nudges]:
+            self.assertIs(error_of(called, [FULL]), TooLarge)
+            self.assertIs(error_of(called, [list(FULL)]), InvalidWeb)
+            self.assertIs(error_of(called, [(11, [(0, 11)], [])]), InvalidWeb)
 
     def test_limits_are_those_of_the_web(self):
         for web in SAMPLES:
@@ -93,6 +99,15 @@ class Parameters(unittest.TestCase):
                 wanted = None if length == many else InvalidGiven
                 self.assertIs(error_of(fillings.step, [web, filling, [5] * count, numbers]), wanted)
                 self.assertIs(error_of(fillings.run, [web, filling, [5] * count, [numbers]]), wanted)
+
+    def test_a_hill_has_as_many_numbers_as_the_web_asks_for(self):
+        for web in SAMPLES:
+            count, many = web[0], len(web[2])
+            for length in range(31):
+                wanted = None if length == count else InvalidHill
+                self.assertIs(error_of(some.bound_of, [web, ([5] * length, [5] * many)]), wanted)
+                wanted = None if length == many else InvalidHill
+                self.assertIs(error_of(some.bound_of, [web, ([5] * count, [5] * length)]), wanted)
 
     def test_from_0_to_60_rows(self):
         for web in SAMPLES:
@@ -133,12 +148,14 @@ class Parameters(unittest.TestCase):
 
     def test_functions_for_any_value_raise_nothing(self):
         odd = [*WRONG_WEBS, *WRONG_LINKS, *WRONG_TARGETS, *WRONG_ORDERS, *WRONG_KINDS, *WRONG_FORTS, *WRONG_FILLINGS,
-               *WRONG_STATES, *WRONG_ROWS]
+               *WRONG_STATES, *WRONG_ROWS, *WRONG_HILLS]
         for value in odd:
             self.assertIn(webs.is_web(value), [False, True])
             self.assertIn(pairings.is_pairing(STAR, value), [False, True])
             self.assertIn(pairings.is_gap(STAR, value), [False, True])
             self.assertIs(fillings.is_filling(STAR, value), False)
+            self.assertIn(some.is_cover(STAR, value), [False, True])
+            self.assertIs(some.is_hill(STAR, value), False)
             self.assertIs(fillings.shows_pushes(STAR, ([4, -4], [[7]]), [1, 1, 1], value), False)
             for kind in KINDS:
                 self.assertIs(every.is_forcing_row(CHAIN, kind, value), False)

@@ -5,11 +5,15 @@ import inspect
 import unittest
 from pathlib import Path
 
-from nudgewebs import every, fillings, forts, pairings, ways, webs
+from nudgewebs import every, fillings, forts, further, lines, pairings, ways, webs
+from nudgewebs import some as some_fillings
 from nudgewebs.every import forcing_row, left_open, reaches_every, rounds
 from nudgewebs.fillings import is_reached, reach_dimension, reach_rows, run, step, unmoved_rows
 from nudgewebs.forts import least_forts, shows_fort
+from nudgewebs.further import fewest_single, fewest_sure, fewest_wide, sure_nudges
+from nudgewebs.lines import needed, raising, spoiling
 from nudgewebs.pairings import is_gap, loose, pairing_size
+from nudgewebs.some import bound_of, is_cover, most, placed, reaches_some
 from nudgewebs.ways import first_rooms, rooms, unreached, way_to
 from nudgewebs.webs import joined, renumbered, targets_of, turned
 
@@ -41,6 +45,17 @@ INTERFACE = {
     pairings: {
         "greatest_pairing": ["web"], "pairing_size": ["web"], "is_pairing": ["web", "value"], "loose": ["web"],
         "is_gap": ["web", "value"],
+    },
+    some_fillings: {
+        "reaches_some": ["web"], "most": ["web"], "best_filling": ["web"], "best_cover": ["web"], "best_hill": ["web"],
+        "is_cover": ["web", "value"], "is_hill": ["web", "value"], "bound_of": ["web", "hill"], "placed": ["web"],
+    },
+    further: {
+        "fewest_wide": ["web"], "wide_nudges": ["web"], "fewest_single": ["web"], "single_nudges": ["web"],
+        "fewest_sure": ["web"], "sure_nudges": ["web"],
+    },
+    lines: {
+        "needed": ["web"], "raising": ["web"], "spoiling": ["web"], "mending": ["web"], "mending_pairs": ["web"],
     },
 }
 star, chain = (3, [(0, 1), (0, 2)], [[0]]), (3, [(0, 1), (1, 2)], [[0]])
@@ -82,12 +97,28 @@ class Examples(unittest.TestCase):
         self.assertEqual([pairing_size(star), loose(star), loose(chain), is_gap(star, [1, 2]), is_gap(star, [0, 1, 2]),
                           is_gap(star, [1])], [2, [1, 2], [], True, True, False])
 
+    def test_some(self):
+        self.assertEqual([most(star), most(chain), most(pair), reaches_some(chain), bound_of(star, ([1, 0, 0], [2])),
+                          bound_of(star, ([0, 0, 0], [0]))], [2, 3, 0, True, 2, 3])
+        self.assertEqual([is_cover(star, ([(0, [0, 2])], [])), is_cover(pair, ([], [[0, 1]])), placed(star)],
+                         [True, False, ["always", "sometimes", "sometimes"]])
+
+    def test_further(self):
+        self.assertEqual([fewest_wide(star), fewest_single(star), fewest_sure(star), sure_nudges(star),
+                          sure_nudges(chain)], [1, 1, 1, [[1], [2]], [[]]])
+        two = (4, [(0, 1), (2, 3)], [])
+        self.assertEqual([fewest_wide(two), fewest_single(two), fewest_wide(pair), fewest_single(pair)], [2, 2, 1, 1])
+
+    def test_lines(self):
+        self.assertEqual([needed(chain), needed(star), raising(star), spoiling(chain)],
+                         [[(0, 1), (1, 2), (3, 0)], [(3, 0)], [(1, 1), (1, 2), (2, 1), (2, 2)], []])
+
     def test_readme(self):
         # The marks around the examples would be taken for what the last one prints.
         text = (Path(__file__).resolve().parent.parent / "README.md").read_text("utf-8").replace("```", "")
         examples = doctest.DocTestParser().get_doctest(text, {}, "README.md", "README.md", 0)
         found = doctest.DocTestRunner().run(examples)
-        self.assertEqual((found.failed, found.attempted), (0, 18))
+        self.assertEqual((found.failed, found.attempted), (0, 25))
 
 
 class Interface(unittest.TestCase):
