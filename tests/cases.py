@@ -1,13 +1,13 @@
 """Right and wrong arguments of all functions, and the kinds of their results."""
 
-from nudgewebs import every, fillings, forts, further, lines, pairings, some, ways, webs
+from nudgewebs import every, fillings, forts, further, lines, pairings, seen, some, texts, ways, webs
 from nudgewebs.errors import InvalidFilling, InvalidFort, InvalidGiven, InvalidHill, InvalidKind, InvalidLinks
-from nudgewebs.errors import InvalidNudge, InvalidOrder, InvalidQuantity, InvalidSource, InvalidState, InvalidTargets
-from nudgewebs.errors import InvalidWeb
+from nudgewebs.errors import InvalidNudge, InvalidNumber, InvalidOrder, InvalidQuantity, InvalidSource, InvalidState
+from nudgewebs.errors import InvalidTargets, InvalidText, InvalidWeb
 from tests.kinds import LINES, NUMBER_LISTS, NUMBERS, WEBS, is_number, is_string, list_of, none_or, tuple_of
 from tests.samples import BARE, CHAIN, FULL, KINDS, LONG, LOOP, ODD_VALUES, PAIR, SAMPLES, STAR, TWINS, filled
-from tests.wrong import WRONG_FILLINGS, WRONG_FORTS, WRONG_GIVEN, WRONG_HILLS, WRONG_KINDS, WRONG_LINKS, WRONG_ORDERS
-from tests.wrong import WRONG_QUANTITIES, WRONG_ROWS, WRONG_STATES, WRONG_TARGETS, WRONG_WEBS
+from tests.wrong import WRONG_FILLINGS, WRONG_FORTS, WRONG_GIVEN, WRONG_HILLS, WRONG_KINDS, WRONG_LINKS, WRONG_NUMBERS
+from tests.wrong import WRONG_ORDERS, WRONG_QUANTITIES, WRONG_ROWS, WRONG_STATES, WRONG_TARGETS, WRONG_TEXTS, WRONG_WEBS
 
 WEB = (InvalidWeb, WRONG_WEBS)
 QUANTITY = (InvalidQuantity, WRONG_QUANTITIES)
@@ -84,6 +84,14 @@ CASES = [
     (lines.spoiling, [CHAIN], [WEB]),
     (lines.mending, [STAR], [WEB]),
     (lines.mending_pairs, [STAR], [WEB]),
+    (seen.shown, [STAR, SHOWING, [1, 2, 3], 4], [WEB, FILLING, STATE, (InvalidNumber, WRONG_NUMBERS)]),
+    (seen.hidden_dimension, [STAR, SHOWING], [WEB, FILLING]),
+    (seen.hidden_rows, [STAR, SHOWING], [WEB, FILLING]),
+    (seen.turned_filling, [STAR, SHOWING], [WEB, FILLING]),
+    (seen.sees_some, [STAR], [WEB]),
+    (seen.sees_every, [STAR], [WEB]),
+    (texts.show_web, [STAR], [WEB]),
+    (texts.read_web, ["3; 0>1 0>2; 0"], [(InvalidText, WRONG_TEXTS)]),
 ]
 
 EVERY = list(range(20))
@@ -133,6 +141,12 @@ GREAT_CASES = [
     (some.is_cover, [STAR, ([(0, [[0]]), [[0, [0]]]], [[[0]], []])]), (some.is_cover, [STAR, []]),
     (some.is_hill, [STAR, ([[1, 0, 0]], [[2], []])]), (some.is_hill, [FULL, (EVERY, [1000] * 8)]),
     (some.bound_of, [FULL, (EVERY, [1000] * 8)]), (some.bound_of, [BARE, (EVERY, [])]),
+    *[(called, [web]) for called in [seen.sees_some, seen.sees_every, texts.show_web] for web in SAMPLES],
+    *[(called, [web, filling]) for called in [seen.hidden_rows, seen.hidden_dimension, seen.turned_filling]
+      for web, filling in [(FULL, GREATEST), (LONG, ([2] * 19, [[3]])), (BARE, ([], [])), (TWINS, ([1] * 4, [[2, 3]] * 2))]],
+    *[(seen.shown, [FULL, GREATEST, GREAT_STATE, number]) for number in [0, 1, 60]],
+    (seen.shown, [BARE, ([], []), GREAT_STATE, 60]), (texts.read_web, ["1; -; -"]),
+    (texts.read_web, ["20; " + " ".join(f"{a}>{b}" for a, b in FULL[1]) + "; 0,19 0,19 0 0 0 0 0 0"]),
 ]
 
 # The kinds of the results. Those of all other functions are bools.
@@ -151,5 +165,7 @@ RESULTS = {
     some.placed: list_of(is_string), further.fewest_wide: is_number, further.wide_nudges: NUMBER_LISTS,
     further.fewest_single: is_number, further.single_nudges: NUMBERS, further.fewest_sure: is_number,
     further.sure_nudges: NUMBER_LISTS, lines.needed: LINES, lines.raising: LINES, lines.spoiling: LINES,
-    lines.mending: LINES, lines.mending_pairs: LINES,
+    lines.mending: LINES, lines.mending_pairs: LINES, seen.shown: NUMBER_LISTS, seen.hidden_dimension: is_number,
+    seen.hidden_rows: NUMBER_LISTS, seen.turned_filling: tuple_of(NUMBERS, NUMBER_LISTS), texts.show_web: is_string,
+    texts.read_web: WEBS,
 }

@@ -293,3 +293,15 @@ def hill_bound(web, hill):
         tops += [price for nudge, price in zip(web[2], prices) if quantity in nudge]
         bound += max([0, *[1 + heights[quantity] - top for top in tops]])
     return bound
+
+
+def is_reduced(rows, count):
+    """Whether rows have the properties of the one list of point 20."""
+    places = []
+    for row in rows:
+        if len(row) != count or gcd(*row) != 1:
+            return False
+        places.append([at for at in range(count) if row[at]][0])
+        if row[places[-1]] < 0 or len([one for one in rows if one[places[-1]]]) != 1:
+            return False
+    return places == sorted(set(places))

@@ -4,7 +4,7 @@ import unittest
 from copy import deepcopy
 from itertools import product
 
-from nudgewebs import every, fillings, forts, further, lines, pairings, some, ways, webs
+from nudgewebs import every, fillings, forts, further, lines, pairings, seen, some, texts, ways, webs
 from nudgewebs.errors import InvalidFilling, InvalidFort, InvalidGiven, InvalidHill, InvalidKind, InvalidLinks
 from nudgewebs.errors import InvalidNudge, InvalidQuantity, InvalidSource, InvalidState, InvalidTargets, InvalidWeb
 from nudgewebs.errors import LineThere, NoLine, TooLarge, WebError
@@ -14,7 +14,7 @@ from tests.samples import BARE, CHAIN, FULL, KINDS, LOOP, ODD_VALUES, PAIR, SAMP
 from tests.wrong import WRONG_FILLINGS, WRONG_FORTS, WRONG_HILLS, WRONG_KINDS, WRONG_LINKS, WRONG_ORDERS, WRONG_ROWS
 from tests.wrong import WRONG_STATES, WRONG_TARGETS, WRONG_WEBS
 
-MODULES = [webs, every, forts, fillings, ways, pairings, some, further, lines]
+MODULES = [webs, every, forts, fillings, ways, pairings, some, further, lines, seen, texts]
 
 
 def error_of(called, arguments):
@@ -95,6 +95,7 @@ class Parameters(unittest.TestCase):
                     self.assertIs(error_of(called, [web, filling, numbers]), wanted)
                 self.assertIs(error_of(fillings.step, [web, filling, numbers, [5] * many]), wanted)
                 self.assertIs(error_of(fillings.run, [web, filling, numbers, []]), wanted)
+                self.assertIs(error_of(seen.shown, [web, filling, numbers, 3]), wanted)
                 self.assertIs(error_of(fillings.shows_pushes, [web, filling, numbers, None]), wanted)
                 wanted = None if length == many else InvalidGiven
                 self.assertIs(error_of(fillings.step, [web, filling, [5] * count, numbers]), wanted)
@@ -123,7 +124,8 @@ class Parameters(unittest.TestCase):
                 filling = filled(other, [1] * 560)
                 lengths = [[len(one[1]), *map(len, one[2])] for one in (web, other)]
                 wanted = None if lengths[0] == lengths[1] else InvalidFilling
-                self.assertIs(error_of(fillings.reach_rows, [web, filling]), wanted, (web, other))
+                for called in [fillings.reach_rows, seen.hidden_rows, seen.hidden_dimension, seen.turned_filling]:
+                    self.assertIs(error_of(called, [web, filling]), wanted, (web, other))
 
     def test_a_fort_is_one_of_just_this_web_and_kind(self):
         for called in [forts.fort_filling, lambda *given: forts.shows_fort(*given, filled(given[0], [1] * 560))]:
@@ -238,7 +240,7 @@ class Kinds(unittest.TestCase):
     def test_webs(self):
         for called, arguments in [(called, right) for called, right, _ in CASES] + GREAT_CASES:
             if called.__name__ in ("with_pair", "without_pair", "with_nudge", "without_nudge", "turned", "renumbered",
-                                   "joined"):
+                                   "joined", "read_web"):
                 self.assertTrue(webs.is_web(called(*arguments)))
 
 

@@ -5,15 +5,19 @@ import inspect
 import unittest
 from pathlib import Path
 
-from nudgewebs import every, fillings, forts, further, lines, pairings, ways, webs
+from nudgewebs import every, fillings, forts, further, lines, pairings, seen, texts, ways, webs
 from nudgewebs import some as some_fillings
+from nudgewebs.console import Console
 from nudgewebs.every import forcing_row, left_open, reaches_every, rounds
 from nudgewebs.fillings import is_reached, reach_dimension, reach_rows, run, step, unmoved_rows
 from nudgewebs.forts import least_forts, shows_fort
 from nudgewebs.further import fewest_single, fewest_sure, fewest_wide, sure_nudges
 from nudgewebs.lines import needed, raising, spoiling
+from nudgewebs.live import LiveWeb
 from nudgewebs.pairings import is_gap, loose, pairing_size
+from nudgewebs.seen import hidden_rows, sees_every, sees_some, shown, turned_filling
 from nudgewebs.some import bound_of, is_cover, most, placed, reaches_some
+from nudgewebs.texts import read_web, show_web
 from nudgewebs.ways import first_rooms, rooms, unreached, way_to
 from nudgewebs.webs import joined, renumbered, targets_of, turned
 
@@ -57,6 +61,20 @@ INTERFACE = {
     lines: {
         "needed": ["web"], "raising": ["web"], "spoiling": ["web"], "mending": ["web"], "mending_pairs": ["web"],
     },
+    seen: {
+        "shown": ["web", "filling", "state", "number"], "hidden_dimension": ["web", "filling"],
+        "hidden_rows": ["web", "filling"], "turned_filling": ["web", "filling"], "sees_some": ["web"],
+        "sees_every": ["web"],
+    },
+    texts: {"show_web": ["web"], "read_web": ["text"]},
+}
+METHODS = {
+    LiveWeb: {
+        "__init__": ["self", "web"], "link": ["self", "quantity", "target"], "cut": ["self", "quantity", "target"],
+        "attach": ["self", "targets"], "detach": ["self", "nudge"], "undo": ["self"], "undo_to": ["self", "number"],
+        "tried": ["self"], "twin": ["self"], "__len__": ["self"], "__eq__": ["self", "other"],
+    },
+    Console: {"__init__": ["self"], "execute": ["self", "command"]},
 }
 star, chain = (3, [(0, 1), (0, 2)], [[0]]), (3, [(0, 1), (1, 2)], [[0]])
 pair = (3, [(0, 1), (1, 0), (1, 2)], [])
@@ -113,12 +131,33 @@ class Examples(unittest.TestCase):
         self.assertEqual([needed(chain), needed(star), raising(star), spoiling(chain)],
                          [[(0, 1), (1, 2), (3, 0)], [(3, 0)], [(1, 1), (1, 2), (2, 1), (2, 2)], []])
 
+    def test_seen(self):
+        self.assertEqual([hidden_rows(star, some), sees_some(star), sees_every(turned(chain)),
+                          turned_filling(pair, ([5, 6, 7], []))], [[[0, 1, 0], [0, 0, 1]], False, True, ([6, 5, 7], [])])
+        self.assertEqual(shown(turned(chain), ([2, 3], [[1]]), [1, 10, 100], 3), [[1], [20], [600]])
+
+    def test_texts(self):
+        self.assertEqual([show_web(star), show_web((1, [], [])), read_web("2; 0>1 1>1; 0,1 1")],
+                         ["3; 0>1 0>2; 0", "1; -; -", (2, [(0, 1), (1, 1)], [[0, 1], [1]])])
+
+    def test_live(self):
+        live = LiveWeb(star)
+        self.assertEqual([live.is_sure, live.link(1, 2), live.is_sure, live.cut(0, 2), live.undo(),
+                          live.tried(("attach", [2]), ("cut", 1, 2)), live.log],
+                         [False, 3, True, 3, 3, [3, 3], [("link", 1, 2)]])
+
+    def test_console(self):
+        console = Console()
+        self.assertEqual([console.execute(one) for one in ["web 3; 0>1 0>2; 0", "most", "forts still", "row steady", "sure",
+                                                           "link 1 2", "sure", "cut 0 2", "row still"]],
+                         ["ok", "2", "1 2", "3>0 1>1 0>2", "no", "3", "yes", "3", "3>0 0>1 1>2"])
+
     def test_readme(self):
         # The marks around the examples would be taken for what the last one prints.
         text = (Path(__file__).resolve().parent.parent / "README.md").read_text("utf-8").replace("```", "")
         examples = doctest.DocTestParser().get_doctest(text, {}, "README.md", "README.md", 0)
         found = doctest.DocTestRunner().run(examples)
-        self.assertEqual((found.failed, found.attempted), (0, 25))
+        self.assertEqual((found.failed, found.attempted), (0, 35))
 
 
 class Interface(unittest.TestCase):
@@ -128,6 +167,19 @@ class Interface(unittest.TestCase):
                 function = vars(module)[name]
                 self.assertEqual(function.__module__, module.__name__)
                 self.assertEqual(inspect.getfullargspec(function)[:4], (parameters, None, None, None), name)
+
+    def test_each_method_is_defined_in_its_class(self):
+        for one, methods in METHODS.items():
+            self.assertEqual(one.__module__, f"nudgewebs.{'live' if one is LiveWeb else 'console'}")
+            for name, parameters in methods.items():
+                star_name = "changes" if name == "tried" else None
+                found = inspect.getfullargspec(vars(one)[name])
+                self.assertEqual(found[:4], (parameters, star_name, None, None), name)
+
+    def test_each_property_is_defined_in_its_class(self):
+        for name in ["web", "most", "is_sure", "log"]:
+            self.assertIn(name, vars(LiveWeb))
+            self.assertTrue(hasattr(LiveWeb(star), name))
 
 
 if __name__ == "__main__":

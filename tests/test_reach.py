@@ -2,12 +2,11 @@
 
 import unittest
 from itertools import product
-from math import gcd
 
 from nudgewebs.fillings import is_reached, reach_dimension, reach_rows, unmoved_rows
 from tests import samples
 from tests.samples import BARE, CHAIN, FULL, LEAST, LONG, LOOP, PAIR, SAMPLES, STAR, TWINS, all_lines, dimension, filled
-from tests.samples import mixed_filling, mixed_web, numbers_from, product_of, reached_states, small_webs
+from tests.samples import is_reduced, mixed_filling, mixed_web, numbers_from, product_of, reached_states, small_webs
 
 GREAT = 10 ** 30 - 1
 
@@ -45,21 +44,11 @@ def cases():
 
 
 class Reach(unittest.TestCase):
-    def assert_reduced(self, rows, count):
-        """The properties of the one list of point 20."""
-        places = []
-        for row in rows:
-            self.assertEqual([len(row), gcd(*row)], [count, 1])
-            places.append([at for at in range(count) if row[at]][0])
-            self.assertGreater(row[places[-1]], 0)
-            self.assertEqual(len([one for one in rows if one[places[-1]]]), 1)
-        self.assertEqual(places, sorted(set(places)))
-
     def assert_reach(self, web, filling):
         count, states = web[0], reached_states(web, filling)
         rows, unmoved = reach_rows(web, filling), unmoved_rows(web, filling)
-        self.assert_reduced(rows, count)
-        self.assert_reduced(unmoved, count)
+        self.assertTrue(is_reduced(rows, count), (web, filling))
+        self.assertTrue(is_reduced(unmoved, count), (web, filling))
         self.assertEqual(len(rows), dimension(states))
         self.assertEqual(dimension(states + rows), dimension(states), (web, filling))
         self.assertEqual(reach_dimension(web, filling), len(rows))
